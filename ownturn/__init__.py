@@ -1,0 +1,1 @@
+"""Ownturn: rows rearranged within their own room."""
