@@ -51,6 +51,27 @@ NO_PLACES = [
     -1, -2, LONGEST, LONGEST + 1, 10 ** 18, -(10 ** 18),
 ]
 
+# No list and no tuple, so no plan of any row.
+NO_PLANS = [
+    None, True, False, 0, 1, -1, 10 ** 18, "", "take", "done", "swap 0 1",
+]
+
+# No deed of any row of three places: by kind, by its word, by how many it has, or by its places.
+NO_DEEDS = [
+    None, True, False, 0, 1, "", "swap", "take", (), [], [[]], ((),), [("take", 0)], (("take", 0),), ["take", 0],
+    ["swap", 0, 1], ["move", 0, 1], ["lay", 0], (0, "take"), ("Take", 0), ("put", 0, 1), (None, 0), (["take"], 0),
+    (("take",), 0), ("take",), ("lay",), ("swap", 0), ("move", 0), ("take", 0, 1), ("lay", 0, 1), ("swap", 0, 1, 2),
+    ("swap", (0, 1)), ("take", [0]), ("take", None), ("take", "0"), ("take", 3), ("take", -1), ("swap", 0, 3),
+    ("swap", -1, 0), ("move", 0, 10 ** 18), ("take", True), ("swap", False, True), ("lay", False), [[[[[[[["take"]]]]]]]],
+]
+
+
+def deeds_for(n):
+    """Every deed with the form of one in a row of n places."""
+    places = range(n)
+    deeds = [(word, a) for word in ("take", "lay") for a in places]
+    return deeds + [(word, a, b) for word in ("swap", "move") for a in places for b in places]
+
 
 def lists_within(thing):
     """Every list in a thing, itself too."""

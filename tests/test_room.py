@@ -6,19 +6,12 @@ import unittest
 from ownturn.errors import BadDeed, TurnError
 from ownturn.room import Room
 
-from samples import LONGEST, NO_PLACES
+from samples import LONGEST, NO_PLACES, deeds_for
 
 
 def stands(room):
     """All that a Room tells of itself."""
     return room.row_now(), room.hand_now(), room.moved_now()
-
-
-def deeds_for(n):
-    """Every deed with the form of one in a row of n places."""
-    places = range(n)
-    deeds = [(word, a) for word in ("take", "lay") for a in places]
-    return deeds + [(word, a, b) for word in ("swap", "move") for a in places for b in places]
 
 
 def reckon(row, hand, deed):
