@@ -77,6 +77,38 @@ class Form(unittest.TestCase):
             if isinstance(node, ast.Name) and isinstance(node.ctx, ast.Store):
                 self.assertNotIn(node.id, PYTHONS, (name, node.lineno))
 
+    def test_no_local_is_called_like_an_import_or_a_class(self):
+        for path in files():
+            tree = ast.parse(path.read_text("ascii"))
+            drawn = {name.name for node in ast.walk(tree) if isinstance(node, ast.ImportFrom) for name in node.names}
+            drawn |= {node.name for node in ast.walk(tree) if isinstance(node, ast.ClassDef)}
+            given = {node.arg for node in ast.walk(tree) if isinstance(node, ast.arg)}
+            given |= {node.id for node in ast.walk(tree) if isinstance(node, ast.Name) and isinstance(node.ctx, ast.Store)}
+            given |= {node.name for node in ast.walk(tree) if isinstance(node, (ast.FunctionDef, ast.ExceptHandler))}
+            self.assertEqual(drawn & given, set(), path.name)
+
+    def test_no_name_is_a_method_and_a_value(self):
+        methods, values = set(), set()
+        for name, node in walked():
+            if isinstance(node, ast.ClassDef):
+                methods |= {part.name for part in node.body if isinstance(part, ast.FunctionDef)}
+            if isinstance(node, ast.Attribute) and isinstance(node.ctx, ast.Store):
+                values.add(node.attr)
+        self.assertEqual(methods & values, set())
+
+    def test_no_file_draws_from_itself_in_whatever_many_steps(self):
+        draws = {}
+        for path in files():
+            tree = ast.parse(path.read_text("ascii"))
+            draws[path.stem] = {
+                node.module.split(".")[-1] for node in ast.walk(tree) if isinstance(node, ast.ImportFrom)}
+        for name in draws:
+            reached, further = set(), draws[name]
+            while further:
+                reached |= further
+                further = {part for each in further for part in draws[each]} - reached
+            self.assertNotIn(name, reached)
+
     def test_is_stands_beside_none_true_false(self):
         for name, node in walked():
             if isinstance(node, ast.Compare):
