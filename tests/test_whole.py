@@ -194,8 +194,6 @@ class Promised(unittest.TestCase):
                 room.do(deed)
                 held = [thing for thing in room.row_now() + (room.hand_now(),) if thing is not None]
                 self.assertEqual(len(set(held)), len(order))
-                if len(order) > 110:
-                    break
 
     def test_moves_are_as_many_as_told(self):
         for order in small_orders(5) + large_orders():
